@@ -1,0 +1,46 @@
+// Package hatch: timetables for one arm and a few warm places, that hold whatever the clock does: see DOC.md.
+package hatch
+
+// Errno is what a call answers: OK or the reason for a refusal.
+type Errno int
+
+const (
+	OK        Errno = 0
+	ErrLong   Errno = 1  // a text above its bound
+	ErrForm   Errno = 2  // no protocol, no table
+	ErrRange  Errno = 3  // bounds the wrong way round, or a rest without places
+	ErrMany   Errno = 4  // too many plates or steps
+	ErrArg    Errno = 5  // a budget that may not be
+	ErrWindow Errno = 6  // a rest that cannot be kept within its bounds
+	ErrNone   Errno = 7  // no order is in time
+	ErrSpent  Errno = 8  // none of those that were gone through is
+	ErrTable  Errno = 9  // a table that is not right
+	ErrScript Errno = 10 // no script
+)
+
+// Check tells whether a text is a right protocol (P3).
+func Check(protocol string) (Errno, int) {
+	if len(protocol) > maxText {
+		return ErrLong, 0
+	}
+	parsed, place, ok := readProtocol(protocol)
+	if !ok {
+		return ErrForm, place
+	}
+	if number, found := firstWrongStep(parsed); found {
+		return ErrRange, number
+	}
+	if hasTooMany(parsed) {
+		return ErrMany, 0
+	}
+	return OK, 0
+}
+
+// Plan makes the best timetable (P4).
+func Plan(protocol string, budget int) (string, bool, Errno) { return "", false, OK }
+
+// Look tells whether a text is a right table (P5).
+func Look(table string) (Errno, int) { return OK, 0 }
+
+// Run tells what the machine does (P6).
+func Run(table string, script string) (string, Errno) { return "", OK }
