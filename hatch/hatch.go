@@ -20,24 +20,31 @@ const (
 
 // Check tells whether a text is a right protocol (P3).
 func Check(protocol string) (Errno, int) {
-	if len(protocol) > maxText {
-		return ErrLong, 0
-	}
-	parsed, place, ok := readProtocol(protocol)
-	if !ok {
-		return ErrForm, place
-	}
-	if number, found := firstWrongStep(parsed); found {
-		return ErrRange, number
-	}
-	if hasTooMany(parsed) {
-		return ErrMany, 0
-	}
-	return OK, 0
+	_, errno, place := checked(protocol)
+	return errno, place
 }
 
 // Plan makes the best timetable (P4).
-func Plan(protocol string, budget int) (string, bool, Errno) { return "", false, OK }
+func Plan(protocol string, budget int) (string, bool, Errno) {
+	parsed, errno, _ := checked(protocol)
+	if errno != OK {
+		return "", false, errno
+	}
+	if budget < 0 || budget > maxBudget {
+		return "", false, ErrArg
+	}
+	if t, found := parsed.firstHopeless(); found {
+		return t.name(), false, ErrWindow
+	}
+	best, found, more := parsed.bestTimetable(budget)
+	switch {
+	case found:
+		return parsed.write(best), !more, OK
+	case more:
+		return "", false, ErrSpent
+	}
+	return "", false, ErrNone
+}
 
 // Look tells whether a text is a right table (P5).
 func Look(table string) (Errno, int) { return OK, 0 }

@@ -27,6 +27,24 @@ type parsedProtocol struct {
 	plates   [][]step
 }
 
+// checked answers what the text says, or its first fault and where it is.
+func checked(text string) (parsedProtocol, Errno, int) {
+	if len(text) > maxText {
+		return parsedProtocol{}, ErrLong, 0
+	}
+	parsed, place, ok := readProtocol(text)
+	if !ok {
+		return parsedProtocol{}, ErrForm, place
+	}
+	if number, found := firstWrongStep(parsed); found {
+		return parsedProtocol{}, ErrRange, number
+	}
+	if hasTooMany(parsed) {
+		return parsedProtocol{}, ErrMany, 0
+	}
+	return parsed, OK, 0
+}
+
 // readProtocol answers, if the text has not the form of a protocol, the
 // place at which it ceases to have it, and false.
 func readProtocol(text string) (parsedProtocol, int, bool) {
