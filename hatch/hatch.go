@@ -47,7 +47,25 @@ func Plan(protocol string, budget int) (string, bool, Errno) {
 }
 
 // Look tells whether a text is a right table (P5).
-func Look(table string) (Errno, int) { return OK, 0 }
+func Look(table string) (Errno, int) {
+	_, errno, place := looked(table)
+	return errno, place
+}
 
 // Run tells what the machine does (P6).
-func Run(table string, script string) (string, Errno) { return "", OK }
+func Run(table string, script string) (string, Errno) {
+	if len(table) > maxTable || len(script) > maxScript {
+		return "", ErrLong
+	}
+	parsed, errno, _ := looked(table)
+	if errno != OK {
+		return "", errno
+	}
+	says, ok := readScript(script)
+	if !ok {
+		return "", ErrScript
+	}
+	m := &machine{table: parsed, script: says}
+	end := m.run()
+	return m.write(end), OK
+}

@@ -3,7 +3,6 @@ package hatch
 import (
 	"slices"
 	"strings"
-	"sync"
 	"testing"
 )
 
@@ -283,59 +282,4 @@ func TestPlanTakesAnything(t *testing.T) {
 			}
 		}
 	}
-}
-
-type answers struct {
-	out        string
-	all        bool
-	planErrno  Errno
-	checkErrno Errno
-	place      int
-}
-
-func answersOf(c planCase) answers {
-	var a answers
-	a.out, a.all, a.planErrno = Plan(c.protocol, c.budget)
-	a.checkErrno, a.place = Check(c.protocol)
-	return a
-}
-
-// TestNothingIsKept: calls answer the same after any other calls, and beside
-// them.
-func TestNothingIsKept(t *testing.T) {
-	calls := []planCase{
-		{protocol: "j1k1d99;a=2-3~5-9~4-4;b=1-1", budget: 9},
-		{protocol: "j1k1d99;a=2-3~5-9~4-4;b=1-1", budget: 1},
-		{protocol: "j0k2d99;a=1-1~9-9~1-1;b=1-1~9-9~1-1", budget: 1000},
-		{protocol: "j0k2d9;a=1-1~9-9~1-1;b=1-1~9-9~1-1", budget: 1000},
-		{protocol: "j1k1d99;a=2-3~5-7~4-4", budget: 9},
-		{protocol: "j1k1d99;a=2-3~5-9~4-4", budget: -1},
-		{protocol: "j1k1d99;a=2-3~5-9~4-", budget: 3},
-		{protocol: "j1k1d99;a=2-3~5-9~4-3", budget: 3},
-		{protocol: plates(5), budget: 3},
-	}
-	first := make([]answers, len(calls))
-	for i, c := range calls {
-		first[i] = answersOf(c)
-	}
-	again := func(i int) {
-		if a := answersOf(calls[i]); a != first[i] {
-			t.Errorf("P2: %q and %d are answered by %v, and later by %v", calls[i].protocol, calls[i].budget, first[i], a)
-		}
-	}
-	for i := range calls {
-		for j := range calls {
-			again(j)
-			again(i)
-		}
-	}
-	var all sync.WaitGroup
-	for i := range calls {
-		all.Go(func() {
-			for range 50 {
-				again(i)
-			}
-		})
-	}
-	all.Wait()
 }

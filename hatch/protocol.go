@@ -88,7 +88,7 @@ func (r *reader) plate(number int) []step {
 
 // plateLetter asks for the kind as well, since behind z no letter is left.
 func (r *reader) plateLetter(number int) {
-	if r.kind() != kindLetter {
+	if kind := r.kind(); kind != kindPlate && kind != kindLetter {
 		r.failed = true
 		return
 	}

@@ -5,10 +5,13 @@ const (
 	kindNone   uint8 = iota // stands nowhere in a text
 	kindZero                // a number of its own, or a digit behind the first
 	kindDigit               // any digit of a number
-	kindLetter              // names a plate, or a number at the text's head
-	kindJoin                // stands between two steps without a rest
+	kindPlate               // names a plate, of a table too
+	kindLetter              // names a plate of a protocol only, or a number at a text's head
+	kindJoin                // stands between two steps without a rest, or between two numbers
 	kindRest                // stands at either end of a rest
-	kindMark                // opens a plate, or its steps, or stands between two bounds
+	kindFrom                // a plate leaves the place behind it
+	kindInto                // a plate comes into the place behind it
+	kindMark                // any other byte that a form asks for by itself
 )
 
 var byteKinds = [128]uint8{
@@ -16,7 +19,7 @@ var byteKinds = [128]uint8{
 	'1': kindDigit, '2': kindDigit, '3': kindDigit,
 	'4': kindDigit, '5': kindDigit, '6': kindDigit,
 	'7': kindDigit, '8': kindDigit, '9': kindDigit,
-	'a': kindLetter, 'b': kindLetter, 'c': kindLetter, 'd': kindLetter,
+	'a': kindPlate, 'b': kindPlate, 'c': kindPlate, 'd': kindPlate,
 	'e': kindLetter, 'f': kindLetter, 'g': kindLetter, 'h': kindLetter,
 	'i': kindLetter, 'j': kindLetter, 'k': kindLetter, 'l': kindLetter,
 	'm': kindLetter, 'n': kindLetter, 'o': kindLetter, 'p': kindLetter,
@@ -25,7 +28,10 @@ var byteKinds = [128]uint8{
 	'y': kindLetter, 'z': kindLetter,
 	',': kindJoin,
 	'~': kindRest,
-	';': kindMark, '=': kindMark, '-': kindMark,
+	'<': kindFrom,
+	'>': kindInto,
+	';': kindMark, '=': kindMark, '-': kindMark, '@': kindMark,
+	'+': kindMark, ':': kindMark, '/': kindMark,
 }
 
 // A reader goes through a text byte by byte. Once a byte cannot stand where
